@@ -1,0 +1,105 @@
+"""The rules of ../shared/LANGUAGE.md that can be seen in the package's files."""
+
+import ast
+import builtins
+import re
+import unittest
+from pathlib import Path
+
+PACKAGE = Path(__file__).resolve().parent.parent / "parkrow"
+
+OWN_OF_PYTHON = set(
+    "len range enumerate zip min max sum abs sorted reversed int str bool list tuple dict set frozenset isinstance "
+    "ord repr any all divmod Exception ValueError TypeError KeyError IndexError LookupError ZeroDivisionError "
+    "ArithmeticError OverflowError RuntimeError NotImplementedError AttributeError StopIteration".split()
+)
+METHODS = set(
+    "append clear copy count endswith extend find get index insert isalnum isalpha isdigit islower isspace isupper "
+    "items join keys ljust lower lstrip partition pop remove replace reverse rfind rjust rpartition rsplit rstrip "
+    "setdefault split splitlines startswith strip update upper values zfill bit_length".split()
+)
+WORDS = (
+    r"\b(type|typing|typing_extensions|enum|Enum|IntEnum|StrEnum|Flag|IntFlag|Generic|Protocol|ABC|ABCMeta|"
+    r"namedtuple|NamedTuple|TypedDict|TYPE_CHECKING|abstractmethod)\b|dataclass|overload|contextmanager"
+)
+LEFT_OUT = (
+    ast.With, ast.Match, ast.Delete, ast.Global, ast.Nonlocal, ast.Assert, ast.Yield, ast.YieldFrom, ast.Await,
+    ast.AsyncFunctionDef, ast.AsyncFor, ast.AsyncWith, ast.SetComp, ast.DictComp, ast.GeneratorExp, ast.NamedExpr,
+    ast.Starred, ast.Div, ast.MatMult, ast.Import, ast.AnnAssign,
+)
+
+
+def files():
+    return sorted(path for path in PACKAGE.rglob("*") if path.is_file() and "__pycache__" not in path.parts)
+
+
+def trees():
+    return [(path.name, ast.parse(path.read_text(encoding="utf-8"))) for path in files()]
+
+
+def drawn_from(tree):
+    return [node for node in ast.walk(tree) if isinstance(node, ast.ImportFrom)]
+
+
+class Files(unittest.TestCase):
+    def test_there_are_plain_files_alone(self):
+        self.assertIn(PACKAGE / "__init__.py", files())
+        for path in files():
+            self.assertRegex(path.name, r"\A[a-z0-9_]+\.py\Z")
+
+    def test_signs_rows_and_words(self):
+        for path in files():
+            text = path.read_bytes().decode("ascii")
+            with self.subTest(path=path.name):
+                self.assertIsNone(re.search(r"[^ -~\n]", text))
+                self.assertIsNone(re.search(WORDS, text))
+                self.assertLessEqual(len(text.splitlines()), 400)
+                self.assertLessEqual(max(len(row) for row in text.splitlines()), 120)
+
+
+class Code(unittest.TestCase):
+    def test_no_clock_chance_or_file_can_be_reached(self):
+        for name, tree in trees():
+            for node in drawn_from(tree):
+                with self.subTest(file=name, drawn=node.module):
+                    self.assertEqual(node.level, 0)
+                    self.assertRegex(node.module, r"\Aparkrow\.[a-z_]+\Z")
+
+    def test_no_two_files_draw_from_one_another(self):
+        left = {name[:-3]: {node.module.split(".")[1] for node in drawn_from(tree)} for name, tree in trees()}
+        while left:
+            ready = [name for name in left if not left[name] & set(left)]
+            self.assertTrue(ready, left)
+            left = {name: left[name] for name in left if name not in ready}
+
+    def test_forms_that_are_left_out(self):
+        for name, tree in trees():
+            for node in ast.walk(tree):
+                with self.subTest(file=name, line=getattr(node, "lineno", 0)):
+                    self.assertNotIsInstance(node, LEFT_OUT)
+                    self.assertFalse(isinstance(node, ast.Constant) and isinstance(node.value, (float, bytes, complex)))
+                    self.assertFalse(isinstance(node, (ast.FunctionDef, ast.ClassDef)) and node.decorator_list)
+                    if isinstance(node, ast.FunctionDef):
+                        self.assertLessEqual(node.end_lineno - node.lineno + 1, 40)
+
+    def test_names(self):
+        for name, tree in trees():
+            for node in ast.walk(tree):
+                if isinstance(node, ast.Name):
+                    with self.subTest(file=name, line=node.lineno, used=node.id):
+                        self.assertFalse(node.id.startswith("_"))
+                        if hasattr(builtins, node.id):
+                            self.assertIn(node.id, OWN_OF_PYTHON)
+                            self.assertIsInstance(node.ctx, ast.Load)
+
+    def test_methods(self):
+        for name, tree in trees():
+            own = {node.name for node in ast.walk(tree) if isinstance(node, ast.FunctionDef)}
+            for node in ast.walk(tree):
+                if isinstance(node, ast.Call) and isinstance(node.func, ast.Attribute):
+                    with self.subTest(file=name, line=node.lineno):
+                        self.assertIn(node.func.attr, METHODS | own)
+
+
+if __name__ == "__main__":
+    unittest.main()
