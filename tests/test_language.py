@@ -1,4 +1,4 @@
-"""The rules of ../shared/LANGUAGE.md that can be seen in the package's files."""
+"""Some rules of ../shared/LANGUAGE.md, those that a short look at the package's files can tell; the others are not tested."""
 
 import ast
 import builtins
