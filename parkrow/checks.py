@@ -10,29 +10,33 @@ def is_number(thing):
     return isinstance(thing, int) and not isinstance(thing, bool)
 
 
-def check_list(wishes):
-    # No refusal shows what was handed in: a number may have more digits than Python writes out.
-    if not isinstance(wishes, list):
-        raise BadWishes("the wishes are no list")
+def is_each_below(bound, things):
+    for thing in things:
+        if not is_number(thing) or thing < 0 or thing >= bound:
+            return False
+    return True
 
 
-def check_each(places, wishes):
-    for wish in wishes:
-        if not is_number(wish) or wish < 0 or wish >= places:
-            raise BadWishes("a wish is no place")
+def is_list_below_its_length(things, more):
+    # The numbers are bounded by how many there are, so the list must be known to be one before it is counted.
+    return isinstance(things, list) and is_each_below(len(things) + more, things)
+
+
+def is_street(places):
+    return is_number(places) and places >= 1 and places <= MOST_PLACES
 
 
 def check_street(places, wishes):
-    if not is_number(places) or places < 1 or places > MOST_PLACES:
+    # No refusal shows what was handed in: a number may have more digits than Python writes out.
+    if not is_street(places):
         raise BadWishes("a street has 1 to 1000000 places")
-    check_list(wishes)
-    check_each(places, wishes)
+    if not isinstance(wishes, list) or not is_each_below(places, wishes):
+        raise BadWishes("the wishes are no list of places of the street")
 
 
 def check_by_cars(wishes, more):
-    # The places are counted by the cars here, so the list must be known to be one before it is counted.
-    check_list(wishes)
-    check_each(len(wishes) + more, wishes)
+    if not is_list_below_its_length(wishes, more):
+        raise BadWishes("the wishes are no list of places, counted by the cars")
 
 
 def crowd_place(places, wishes):

@@ -1,4 +1,7 @@
-"""Slow and plain tellings of what the document says, and inputs that several tests share."""
+"""Slow and plain tellings of what the document says, and inputs that several tests share.
+
+Long lists are compared by assertTrue: to show where two of them differ, assertEqual takes minutes.
+"""
 
 from itertools import product
 
@@ -10,6 +13,10 @@ NO_LISTS = (None, 0, 1, True, "", "0", (), (0,), {}, {0: 0}, set(), frozenset((0
 
 # More digits than Python turns into a text.
 HUGE = 10 ** 5000
+
+
+# Each is no text, though some could be walked like one.
+NO_TEXTS = (None, 0, 5, True, False, 1.5, b"", b"ud", b"5:", [], ["u", "d"], ["5:"], ("ud",), {}, {"ud": 1}, set(), object())
 
 
 def all_wishes(places, cars):
@@ -46,3 +53,27 @@ def plain_ring(places, wishes):
 def is_full(wishes):
     """Also for wishes beyond the street of as many places: they are not full."""
     return all(wish < len(wishes) for wish in wishes) and None not in plain_stands(len(wishes), wishes)
+
+
+def all_full(cars):
+    return [wishes for wishes in all_wishes(max(cars, 1), cars) if is_full(wishes)]
+
+
+def plain_row(parents):
+    """Who is served in each turn, those alone that are come to from the root."""
+    waiting = [0]
+    row = []
+    while waiting:
+        one = waiting.pop(0)
+        row.append(one)
+        waiting += [car for car in range(1, len(parents) + 1) if parents[car - 1] == one]
+    return row
+
+
+def is_tree(parents):
+    for car in range(1, len(parents) + 1):
+        for step in range(len(parents)):
+            car = parents[car - 1] if car else 0
+        if car:
+            return False
+    return True

@@ -1,4 +1,4 @@
-"""Some rules of ../shared/LANGUAGE.md, those that a short look at the package's files can tell; the others are not tested."""
+"""Some rules of ../shared/LANGUAGE.md, those that a short look at the files can tell; the others are not tested."""
 
 import ast
 import builtins
@@ -27,6 +27,11 @@ LEFT_OUT = (
     ast.AsyncFunctionDef, ast.AsyncFor, ast.AsyncWith, ast.SetComp, ast.DictComp, ast.GeneratorExp, ast.NamedExpr,
     ast.Starred, ast.Div, ast.MatMult, ast.Import, ast.AnnAssign,
 )
+
+KEYWORDS = {
+    "sorted": {"key", "reverse"}, "min": {"key", "default"}, "max": {"key", "default"}, "sum": {"start"},
+    "enumerate": {"start"}, "zip": {"strict"},
+}
 
 
 def files():
@@ -99,6 +104,53 @@ class Code(unittest.TestCase):
                 if isinstance(node, ast.Call) and isinstance(node.func, ast.Attribute):
                     with self.subTest(file=name, line=node.lineno):
                         self.assertIn(node.func.attr, METHODS | own)
+
+    def test_each_name_once_at_the_top_of_a_file(self):
+        for name, tree in trees():
+            bound = [node.name for node in tree.body if isinstance(node, (ast.FunctionDef, ast.ClassDef))]
+            bound += [target.id for node in tree.body if isinstance(node, ast.Assign) for target in node.targets]
+            bound += [alias.asname or alias.name for node in drawn_from(tree) for alias in node.names]
+            self.assertEqual(len(bound), len(set(bound)), name)
+
+    def test_parameters_and_locals(self):
+        for name, tree in trees():
+            taken = {node.name for node in tree.body if isinstance(node, (ast.FunctionDef, ast.ClassDef))}
+            taken |= {alias.name for node in drawn_from(tree) for alias in node.names} | set(dir(builtins))
+            for function in [node for node in ast.walk(tree) if isinstance(node, (ast.FunctionDef, ast.Lambda))]:
+                names = [node for node in ast.walk(function) if isinstance(node, ast.Name)]
+                own = {node.id for node in names if isinstance(node.ctx, ast.Store)}
+                own |= {one.arg for one in function.args.args}
+                self.assertEqual(own & taken, set(), name)
+                self.assertFalse(function.args.vararg or function.args.kwarg or function.args.kwonlyargs, name)
+
+    def test_one_target_and_is_beside_plain_values_alone(self):
+        for name, tree in trees():
+            for node in ast.walk(tree):
+                with self.subTest(file=name, line=getattr(node, "lineno", 0)):
+                    if isinstance(node, ast.Assign):
+                        self.assertEqual(len(node.targets), 1)
+                        self.assertNotIsInstance(node.targets[0], (ast.Tuple, ast.List))
+                    if isinstance(node, ast.Compare) and any(isinstance(op, (ast.Is, ast.IsNot)) for op in node.ops):
+                        self.assertIn(ast.unparse(node.comparators[0]), ("None", "True", "False"))
+
+    def test_keywords_and_sets(self):
+        for name, tree in trees():
+            parents = {child: node for node in ast.walk(tree) for child in ast.iter_child_nodes(node)}
+            for node in ast.walk(tree):
+                if isinstance(node, ast.Call) and isinstance(node.func, ast.Name):
+                    with self.subTest(file=name, line=node.lineno):
+                        if hasattr(builtins, node.func.id):
+                            self.assertLessEqual({one.arg for one in node.keywords}, KEYWORDS.get(node.func.id, set()))
+                        if node.func.id == "set":
+                            self.assertIn(ast.unparse(parents[node]).partition("(")[0], ("len", "sorted"))
+
+    def test_texts_hold_no_percent_and_no_escape(self):
+        for path in files():
+            text = path.read_text(encoding="utf-8")
+            self.assertNotIn("\\", text, path.name)
+            for node in ast.walk(ast.parse(text)):
+                if isinstance(node, ast.Constant) and isinstance(node.value, str):
+                    self.assertNotIn("%", node.value, path.name)
 
 
 if __name__ == "__main__":

@@ -34,8 +34,8 @@ class Ring(unittest.TestCase):
 
     def test_a_long_row_of_cars(self):
         cars = 200000
-        self.assertEqual(ring(MOST, [900000] * cars), list(range(900000, MOST)) + list(range(100000)))
-        self.assertEqual(ring(cars, [cars - 1] * cars), [cars - 1] + list(range(cars - 1)))
+        self.assertTrue(ring(MOST, [900000] * cars) == list(range(900000, MOST)) + list(range(100000)))
+        self.assertTrue(ring(cars, [cars - 1] * cars) == [cars - 1] + list(range(cars - 1)))
 
     def test_more_cars_than_places(self):
         for places, wishes in ((1, [0, 0]), (3, [0, 1, 2, 0]), (2, [1] * 9)):

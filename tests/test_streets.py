@@ -42,7 +42,7 @@ class ParkedOrCrowd(unittest.TestCase):
     def assert_parked(self, places, wishes, where):
         answer = parked(places, wishes)
         self.assertIs(type(answer), Parked)
-        self.assertEqual(answer.where, where)
+        self.assertTrue(answer.where == where, (places, wishes[:9]))
         self.assertIs(type(answer.where), list)
         self.assertFalse(hasattr(answer, "place"))
 
@@ -141,7 +141,7 @@ class Taken(unittest.TestCase):
             self.assertEqual(len(told), 1)
 
     def test_many_cars(self):
-        self.assertEqual(taken(MOST, [800000] * 300000), list(range(800000, MOST)))
+        self.assertTrue(taken(MOST, [800000] * 300000) == list(range(800000, MOST)))
 
 
 class DrivenOff(unittest.TestCase):
@@ -161,7 +161,7 @@ class DrivenOff(unittest.TestCase):
             self.assertEqual(driven_off(places, wishes), [car for car in range(len(where)) if where[car] is None])
 
     def test_many_cars(self):
-        self.assertEqual(driven_off(MOST, [800000] * 300000), list(range(200000, 300000)))
+        self.assertTrue(driven_off(MOST, [800000] * 300000) == list(range(200000, 300000)))
 
 
 class Lucky(unittest.TestCase):
